@@ -1,0 +1,51 @@
+import ast
+import importlib
+import inspect
+import pathlib
+import unittest
+
+PACKAGE = pathlib.Path(__file__).resolve().parent.parent / "prefixgraft"
+
+# The names of each file, with their parameters; None where the document tells none.
+INTERFACE = {
+    "errors": {
+        "GraftError": None, "BadPart": "path, item", "BadText": "place", "BadSurrounding": "prefix",
+        "BadFilling": "hole", "BadPath": "path", "TooMany": "most", "BadQuestion": None,
+        "Parts": "surrounding, filling", "Stuck": "prefix", "Missing": "name",
+    },
+    "parts": {
+        "is_prefix": "thing", "is_local": "thing", "is_address": "thing", "is_name": "thing", "need_part": "thing",
+        "holes": "part", "prefixes": "part", "paths": "part", "element_at": "part, path",
+    },
+    "reading": {
+        "need_surrounding": "thing", "need_filling": "thing", "meaning": "part, surrounding, filling=None",
+    },
+}
+
+
+class Interface(unittest.TestCase):
+    def test_each_is_defined_in_its_file(self):
+        for name, wanted in INTERFACE.items():
+            tree = ast.parse((PACKAGE / f"{name}.py").read_text())
+            defined = [one.name for one in tree.body if isinstance(one, (ast.FunctionDef, ast.ClassDef))]
+            for told in wanted:
+                with self.subTest(name, told=told):
+                    self.assertEqual(defined.count(told), 1)
+
+    def test_the_arguments(self):
+        for name, wanted in INTERFACE.items():
+            module = importlib.import_module(f"prefixgraft.{name}")
+            for told, parameters in wanted.items():
+                if parameters is not None:
+                    with self.subTest(name, told=told):
+                        self.assertEqual(str(inspect.signature(getattr(module, told))), f"({parameters})")
+
+    def test_the_numbers(self):
+        parts = importlib.import_module("prefixgraft.parts")
+        for number, wanted in ((parts.MOST_ELEMENTS, 60), (parts.MOST_LEVELS, 8)):
+            self.assertIs(type(number), int)
+            self.assertEqual(number, wanted)
+
+
+if __name__ == "__main__":
+    unittest.main()
