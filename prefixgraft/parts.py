@@ -30,12 +30,28 @@ def is_address(thing):
 
 def is_name(thing):
     """Whether a thing is a NAME."""
-    return _is_pair(thing) and is_prefix(thing[0]) and is_local(thing[1])
+    return is_pair(thing) and is_prefix(thing[0]) and is_local(thing[1])
 
 
 def is_word(thing):
     """Whether a thing is such a string as a HOLE has ("xmlns" is one, too)."""
     return _is_made_of(thing, _LETTERS, 1, _MOST_LETTERS)
+
+
+def is_pair(thing):
+    """Whether a thing is a tuple of two."""
+    return isinstance(thing, tuple) and len(thing) == 2
+
+
+def is_number_below(thing, many):
+    """Whether a thing is an integer from 0 on that is less than many."""
+    # Python takes True and False for integers, and the document does not.
+    return isinstance(thing, int) and not isinstance(thing, bool) and 0 <= thing < many
+
+
+def is_element(thing):
+    """Whether a thing begins as an ELEMENT does; of a child of one, whether it is one."""
+    return _begins(thing, "element")
 
 
 def is_part(thing):
@@ -55,7 +71,7 @@ def need_part(thing):
 def holes(part):
     """The ascending tuple of the strings of a PART's HOLEs."""
     need_part(part)
-    return tuple(sorted([hole for _, element in walk(part) for hole in _holes_among(element[4])]))
+    return tuple(sorted([hole for _, element in walk(part) for hole in holes_among(element[4])]))
 
 
 def prefixes(part):
@@ -81,10 +97,10 @@ def element_at(part, path):
         raise BadPath(path)
     element = part
     for number in path:
-        if not _is_number_below(number, len(element[4])):
+        if not is_number_below(number, len(element[4])):
             raise BadPath(path)
         element = element[4][number]
-        if not _begins(element, "element"):
+        if not is_element(element):
             raise BadPath(path)
     return element
 
@@ -107,6 +123,18 @@ def names_in(element):
     return [element[1]] + [name for name, _ in attributes] + quoted
 
 
+def looked_up(element):
+    """The list of the PREFIXes that the NAMEs of an ELEMENT are read by: the DEFAULT is not for its ATTRIBUTES."""
+    attributes = element[3]
+    of_attributes = [name[0] for name, _ in attributes if name[0] != ""]
+    return [element[1][0]] + of_attributes + [value[0] for _, value in attributes if not isinstance(value, str)]
+
+
+def holes_among(children):
+    """The list of the strings of the HOLEs among CHILDREN, as they stand."""
+    return [child[1] for child in children if _begins(child, "hole")]
+
+
 def _is_made_of(thing, signs, least, most):
     """Whether a thing is a string of least to most of these signs."""
     if not isinstance(thing, str) or not least <= len(thing) <= most:
@@ -114,20 +142,9 @@ def _is_made_of(thing, signs, least, most):
     return all([sign in signs for sign in thing])
 
 
-def _is_pair(thing):
-    """Whether a thing is a tuple of two."""
-    return isinstance(thing, tuple) and len(thing) == 2
-
-
 def _is_plain(thing):
     """Whether a thing is a PLAIN string."""
     return _is_made_of(thing, _PLAIN_SIGNS, 0, _MOST_SIGNS)
-
-
-def _is_number_below(thing, many):
-    """Whether a thing is an integer from 0 on that is less than many."""
-    # Python takes True and False for integers, and the document does not.
-    return isinstance(thing, int) and not isinstance(thing, bool) and 0 <= thing < many
 
 
 def _begins(thing, word):
@@ -141,17 +158,12 @@ def _is_hole(thing):
     return _begins(thing, "hole") and len(thing) == 2 and is_word(thing[1])
 
 
-def _holes_among(children):
-    """The list of the strings of the HOLEs among CHILDREN, as they stand."""
-    return [child[1] for child in children if _begins(child, "hole")]
-
-
 def _below(path, element):
     """The pairs (PATH, child) of what begins as an ELEMENT among the CHILDREN, the last one first."""
     return [
         (path + (number,), child)
         for number, child in reversed(list(enumerate(element[4])))
-        if _begins(child, "element")
+        if is_element(child)
     ]
 
 
@@ -181,7 +193,7 @@ def _first_wrong(thing):
 
 def _wrong_item(thing):
     """The first item of a thing by which it is no ELEMENT by itself, or None."""
-    if not _begins(thing, "element") or len(thing) != 5:
+    if not is_element(thing) or len(thing) != 5:
         return "form"
     if not is_name(thing[1]):
         return "name"
@@ -203,7 +215,7 @@ def _are_declarations(thing):
 
 def _is_declaration(thing):
     """Whether a thing is a pair that binds a PREFIX, or takes it back."""
-    return _is_pair(thing) and is_prefix(thing[0]) and (is_address(thing[1]) or _is_empty(thing[1]))
+    return is_pair(thing) and is_prefix(thing[0]) and (is_address(thing[1]) or _is_empty(thing[1]))
 
 
 def _is_empty(thing):
@@ -220,7 +232,7 @@ def _are_attributes(thing):
 
 def _is_attribute(thing):
     """Whether a thing is a pair of a NAME and a VALUE."""
-    return _is_pair(thing) and is_name(thing[0]) and (_is_plain(thing[1]) or is_name(thing[1]))
+    return is_pair(thing) and is_name(thing[0]) and (_is_plain(thing[1]) or is_name(thing[1]))
 
 
 def _are_children(thing):
@@ -232,7 +244,7 @@ def _are_children(thing):
         if isinstance(child, str):
             if behind_text or _is_empty(child) or not _is_plain(child):
                 return False
-        elif not _begins(child, "element") and not _is_hole(child):
+        elif not is_element(child) and not _is_hole(child):
             return False
         behind_text = isinstance(child, str)
     return True
@@ -242,7 +254,7 @@ def _first_hole_again(part):
     """The pair (PATH, "hole") of the first ELEMENT with a HOLE that was told ahead of it; or None."""
     told = []
     for path, element in walk(part):
-        told.extend(_holes_among(element[4]))
+        told.extend(holes_among(element[4]))
         if len(set(told)) < len(told):
             return path, "hole"
     return None

@@ -20,6 +20,16 @@ INTERFACE = {
     "reading": {
         "need_surrounding": "thing", "need_filling": "thing", "meaning": "part, surrounding, filling=None",
     },
+    "skeletons": {
+        "skeleton": "part", "is_refused": "part", "needs": "part", "hangs_on": "part", "clashes": "part",
+        "state_at": "part, path, prefix",
+    },
+    "likeness": {"alike": "one, other", "parted": "one, other", "put": "part, hole, other"},
+    "declaring": {
+        "fewest": "part", "shortest": "part", "how_few": "part", "needless": "part", "paper": "part",
+        "shown": "part, thing", "variant": "one, other", "keeping": "one, other",
+    },
+    "grafting": {"moved": "part, path, to, at", "stuck_by": "part, path, to"},
 }
 
 

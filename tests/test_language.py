@@ -25,6 +25,10 @@ LIBRARY = {
     "itertools": "product combinations permutations".split(),
 }
 NEVER = set("register mro elements open input law version_info with_traceback add_note".split())
+BARRED = re.compile(
+    r"\A(_wall|_pe_|_dcw_|_enum_|_cm_|_twin_re_|_lay_|_law_|_stub_|_sre|_WallAttr"
+    r"|_(cold|tuplegetter|outside|record|written_out|member_names)[0-9_]*\Z)"
+)
 NO_WORDS = re.compile(
     r"\b(type|typing|typing_extensions|enum|Enum|IntEnum|StrEnum|Flag|IntFlag|Generic|Protocol|ABC|ABCMeta|namedtuple"
     r"|NamedTuple|TypedDict|TYPE_CHECKING|abstractmethod)\b|dataclass|overload|contextmanager|_wall"
@@ -110,9 +114,14 @@ class Rules(unittest.TestCase):
         self.each(check)
 
     def test_l8_and_l25_what_is_called(self):
+        methods = {
+            node.name for path in PATHS for one in ast.walk(ast.parse(path.read_text()))
+            if isinstance(one, ast.ClassDef) for node in one.body if isinstance(node, ast.FunctionDef)
+        }
+
         def check(_, __, tree):
             nodes = list(ast.walk(tree))
-            own = METHODS | {node.name for node in nodes if isinstance(node, ast.FunctionDef)}
+            own = METHODS | methods
             bound = {name for node in nodes for name in names_of(node) if not isinstance(node, ast.Name)}
             bound.update(node.id for node in nodes if isinstance(node, ast.Name) and isinstance(node.ctx, ast.Store))
             for node in nodes:
@@ -129,6 +138,7 @@ class Rules(unittest.TestCase):
             for node in ast.walk(tree):
                 for name in names_of(node):
                     self.assertNotIn(name, NEVER)
+                    self.assertIsNone(BARRED.search(name))
                     self.assertRegex(name, r"\A(_|_?[A-Za-z][A-Za-z0-9_]*|__[a-z]+__)\Z")
                 if isinstance(node, (ast.Name, ast.arg)) and not isinstance(getattr(node, "ctx", None), ast.Load):
                     name = node.id if isinstance(node, ast.Name) else node.arg
