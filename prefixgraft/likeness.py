@@ -1,12 +1,12 @@
 """PARTs that are ALIKE wherever they are put, and what parts those that are not."""
 
 from prefixgraft.errors import BadQuestion, TooMany
-from prefixgraft.parts import holes, holes_among, is_element, is_local, names_in, need_part, prefixes, walk
+from prefixgraft.fresh import fresh_addresses, fresh_words
+from prefixgraft.parts import holes, holes_among, is_element, names_in, need_part, prefixes, walk
 from prefixgraft.reading import meaning
-from prefixgraft.skeletons import bound_by_path, is_refused, needs, skeleton, state_in
+from prefixgraft.skeletons import address_in, bound_by_path, is_refused, needs, skeleton
 
 _MOST_PREFIXES = 8
-_LETTERS = "abcdefghijklmnopqrstuvwxyz"
 
 
 def alike(one, other):
@@ -27,7 +27,7 @@ def parted(one, other):
         raise TooMany(_MOST_PREFIXES)
     plain = _plain_filling(one, other)
     for bound in _worth_binding(one, other, every):
-        surrounding = _binding(bound, one, other)
+        surrounding = dict(zip(bound, fresh_addresses(len(bound), (one, other))))
         for filling in (plain, _telling_filling(one, other, surrounding, every, plain)):
             if meaning(one, surrounding, filling) != meaning(other, surrounding, filling):
                 return surrounding, filling
@@ -57,12 +57,6 @@ def _worth_binding(one, other, every):
     return found
 
 
-def _binding(bound, one, other):
-    """The SURROUNDING that binds PREFIXes to unlike ADDRESSes, which neither PART has."""
-    taken = [address for part in (one, other) for _, element in walk(part) for _, address in element[2]]
-    return dict(zip(bound, _fresh_words(len(bound), taken)))
-
-
 def _plain_filling(one, other):
     """The FILLING for just the HOLEs of two PARTs with ELEMENTs of unlike LOCALs, which neither PART has.
 
@@ -70,7 +64,7 @@ def _plain_filling(one, other):
     """
     taken = [name[1] for part in (one, other) for _, element in walk(part) for name in names_in(element)]
     every = sorted(set(holes(one)) | set(holes(other)))
-    return {hole: _leaf("", local) for hole, local in zip(every, _fresh_words(len(every), taken))}
+    return {hole: _leaf("", local) for hole, local in zip(every, fresh_words(len(every), taken))}
 
 
 def _telling_filling(one, other, surrounding, every, plain):
@@ -81,7 +75,7 @@ def _telling_filling(one, other, surrounding, every, plain):
     for hole in plain:
         if hole in seen_one and hole in seen_other:
             for prefix in every:
-                if _address(seen_one[hole], prefix, surrounding) != _address(seen_other[hole], prefix, surrounding):
+                if address_in(seen_one[hole], prefix, surrounding) != address_in(seen_other[hole], prefix, surrounding):
                     filling[hole] = _leaf(prefix, plain[hole][1][1])
                     return filling
     return filling
@@ -93,38 +87,9 @@ def _bound_at_holes(part):
     return {hole: bound[path] for path, element in walk(part) for hole in holes_among(element[4])}
 
 
-def _address(bound, prefix, surrounding):
-    """What a PREFIX is BOUND to where STATEs are these, in a SURROUNDING."""
-    kind, told = state_in(bound, prefix)
-    return told if kind == "at" else surrounding.get(prefix, "")
-
-
 def _leaf(prefix, local):
     """An ELEMENT without DECLARATIONS, ATTRIBUTES and CHILDREN."""
     return "element", (prefix, local), (), (), ()
-
-
-def _fresh_words(many, taken):
-    """The list of so many unlike strings that none is taken; they are LOCALs, and so ADDRESSes too."""
-    used = set(taken)
-    found = []
-    number = 0
-    while len(found) < many:
-        word = _word(number)
-        if is_local(word) and word not in used:
-            found.append(word)
-        number += 1
-    return found
-
-
-def _word(number):
-    """The string with a number among all strings of letters, the shorter ones first."""
-    word = ""
-    rest = number + 1
-    while rest > 0:
-        rest, letter = divmod(rest - 1, len(_LETTERS))
-        word = _LETTERS[letter] + word
-    return word
 
 
 def _with_put(element, hole, other):

@@ -5,27 +5,28 @@ from prefixgraft.errors import BadPart, BadPath
 MOST_ELEMENTS = 60
 MOST_LEVELS = 8
 
-_MOST_LETTERS = 8
+MOST_LETTERS = 8
+LETTERS = "abcdefghijklmnopqrstuvwxyz"
+ADDRESS_SIGNS = "abcdefghijklmnopqrstuvwxyz0123456789./:-"
+PLAIN_SIGNS = "abcdefghijklmnopqrstuvwxyz0123456789 ./-"
+RESERVED = "xmlns"
+
 _MOST_SIGNS = 20
-_LETTERS = "abcdefghijklmnopqrstuvwxyz"
-_ADDRESS_SIGNS = "abcdefghijklmnopqrstuvwxyz0123456789./:-"
-_PLAIN_SIGNS = "abcdefghijklmnopqrstuvwxyz0123456789 ./-"
-_RESERVED = "xmlns"
 
 
 def is_prefix(thing):
     """Whether a thing is a PREFIX."""
-    return _is_made_of(thing, _LETTERS, 0, _MOST_LETTERS) and thing != _RESERVED
+    return _is_made_of(thing, LETTERS, 0, MOST_LETTERS) and thing != RESERVED
 
 
 def is_local(thing):
     """Whether a thing is a LOCAL."""
-    return _is_made_of(thing, _LETTERS, 1, _MOST_LETTERS) and thing != _RESERVED
+    return _is_made_of(thing, LETTERS, 1, MOST_LETTERS) and thing != RESERVED
 
 
 def is_address(thing):
     """Whether a thing is an ADDRESS ("" is none)."""
-    return _is_made_of(thing, _ADDRESS_SIGNS, 1, _MOST_SIGNS)
+    return _is_made_of(thing, ADDRESS_SIGNS, 1, _MOST_SIGNS)
 
 
 def is_name(thing):
@@ -35,7 +36,7 @@ def is_name(thing):
 
 def is_word(thing):
     """Whether a thing is such a string as a HOLE has ("xmlns" is one, too)."""
-    return _is_made_of(thing, _LETTERS, 1, _MOST_LETTERS)
+    return _is_made_of(thing, LETTERS, 1, MOST_LETTERS)
 
 
 def is_pair(thing):
@@ -118,16 +119,23 @@ def walk(part):
 
 def names_in(element):
     """The list of the NAMEs of an ELEMENT, of its ATTRIBUTES, and of the QUOTED ones in it."""
-    attributes = element[3]
-    quoted = [value for _, value in attributes if not isinstance(value, str)]
-    return [element[1]] + [name for name, _ in attributes] + quoted
+    return [element[1]] + [name for name, _ in element[3]] + quoted_in(element)
+
+
+def quoted_in(element):
+    """The list of the QUOTED NAMEs of an ELEMENT."""
+    return [value for _, value in element[3] if not isinstance(value, str)]
+
+
+def seen_in(element):
+    """The list of the PREFIXes that the NAMEs of an ELEMENT and of its ATTRIBUTES are read by."""
+    # The DEFAULT is not for ATTRIBUTES.
+    return [element[1][0]] + [name[0] for name, _ in element[3] if name[0] != ""]
 
 
 def looked_up(element):
-    """The list of the PREFIXes that the NAMEs of an ELEMENT are read by: the DEFAULT is not for its ATTRIBUTES."""
-    attributes = element[3]
-    of_attributes = [name[0] for name, _ in attributes if name[0] != ""]
-    return [element[1][0]] + of_attributes + [value[0] for _, value in attributes if not isinstance(value, str)]
+    """The list of the PREFIXes that all NAMEs in an ELEMENT are read by, the QUOTED ones too."""
+    return seen_in(element) + [name[0] for name in quoted_in(element)]
 
 
 def holes_among(children):
@@ -144,7 +152,7 @@ def _is_made_of(thing, signs, least, most):
 
 def _is_plain(thing):
     """Whether a thing is a PLAIN string."""
-    return _is_made_of(thing, _PLAIN_SIGNS, 0, _MOST_SIGNS)
+    return _is_made_of(thing, PLAIN_SIGNS, 0, _MOST_SIGNS)
 
 
 def _begins(thing, word):

@@ -73,6 +73,12 @@ def state_in(bound, prefix):
     return bound.get(prefix, ("out", prefix))
 
 
+def address_in(bound, prefix, surrounding):
+    """What a PREFIX is BOUND to in a SURROUNDING where those that are not as OUTSIDE have the STATEs of a dict."""
+    kind, told = state_in(bound, prefix)
+    return told if kind == "at" else surrounding.get(prefix, "")
+
+
 def _bound_in(declarations, around):
     """The dict from PREFIXes to their STATEs, if not as OUTSIDE, in an ELEMENT with these DECLARATIONS."""
     bound = dict(around)

@@ -1,6 +1,8 @@
 """What the document says of STATEs, KEEPING, PAPERs and the like, written down slowly, and PARTs by chance."""
 
 import itertools
+import math
+import re
 
 from tests.samples import element, hole
 
@@ -136,6 +138,126 @@ def shows(part, paper):
                 if edge in edges and (edges[edge] != direction or fixed[goal] == fixed[other_goal]):
                     return None
     return sum(len(chains) for _, chains in paper)
+
+
+def bound(part, path, prefix, surrounding):
+    """What a PREFIX is BOUND to in an ELEMENT of a PART, in a SURROUNDING."""
+    kind, told = state(part, path, prefix)
+    return told if kind == "at" else surrounding.get(prefix, "")
+
+
+def visible(one, listed):
+    """The PREFIXes that are VISIBLE in an ELEMENT by a LIST."""
+    return {one[1][0], *[name[0] for name, _ in one[3] if name[0] != ""], *listed}
+
+
+def sealed(part, surrounding, listed=()):
+    """The SEALED form of a PART."""
+    told = {}
+    for path, one in elements(part):
+        told[path] = []
+        for prefix in sorted(visible(one, listed)):
+            last = ""
+            for length in range(len(path)):
+                last = dict(told[path[:length]]).get(prefix, last)
+            if bound(part, path, prefix, surrounding) != last:
+                told[path].append((prefix, bound(part, path, prefix, surrounding)))
+    return with_declarations(part, told)
+
+
+def surroundings(prefixes, addresses):
+    """All SURROUNDINGs that bind some of these PREFIXes to some of these ADDRESSes."""
+    for row in itertools.product((None,) + tuple(addresses), repeat=len(prefixes)):
+        yield {prefix: address for prefix, address in zip(prefixes, row) if address is not None}
+
+
+def variants(part, prefixes, addresses):
+    """All VARIANTs of a PART with DECLARATIONS of these PREFIXes and ADDRESSes (or "")."""
+    paths = [path for path, _ in elements(part)]
+    told = [tuple(one.items()) for one in surroundings(prefixes, ("",) + tuple(addresses))]
+    for row in itertools.product(told, repeat=len(paths)):
+        yield with_declarations(part, dict(zip(paths, row)))
+
+
+LETTERS = "abcdefghijklmnopqrstuvwxyz"
+ADDRESS_SIGNS = LETTERS + "0123456789./:-"
+PLAIN_SIGNS = LETTERS + "0123456789 ./-"
+NAME = re.compile(r"(?!xmlns(?::|$))([a-z]{1,8}:(?!xmlns$))?[a-z]{1,8}")
+NAME_BEGINS = re.compile(r"[a-z]{0,8}|(?!xmlns:)[a-z]{1,8}:[a-z]{0,8}")
+
+
+def signs(text):
+    """What a stack holds of signs that have to come one after the other."""
+    return tuple(("is", sign) for sign in text)
+
+
+def some(allowed, least=0, most=math.inf):
+    """What a stack holds of so many of these signs."""
+    return (("of", allowed, least, most),)
+
+
+def ways(stack):
+    """All stacks that begin with what takes a sign, or are empty, and that a stack may become before the next sign.
+
+    A stack holds what has to come of a written form, the next thing first.
+    """
+    if not stack or stack[0][0] == "is":
+        yield stack
+        return
+    (kind, *told), rest = stack[0], stack[1:]
+    after = []
+    if kind == "of":
+        yield stack
+        after = [()] if told[1] <= 0 else []
+    elif kind == "name":
+        yield stack
+        if NAME.fullmatch(told[0]) and not (told[1] == "prefix" and ":" in told[0]):
+            after = [(("items", True, told[0]),) if told[1] == "element" else ()]
+    elif kind == "element":
+        after = [signs("<") + (("name", "", "element"),)]
+    elif kind == "items":
+        declaring, name = told
+        after = [
+            signs("/>"), signs(">") + (("child",), ("children", name)),
+            signs(" ") + (("name", "", "attribute"), *signs('="'), ("worth",), *signs('"'), ("items", False, name)),
+        ]
+        if declaring:
+            address = signs('="') + some(ADDRESS_SIGNS) + signs('"') + (("items", True, name),)
+            after += [signs(" xmlns") + address, signs(" xmlns:") + (("name", "", "prefix"),) + address]
+    elif kind == "worth":
+        after = [some(PLAIN_SIGNS), signs("@") + (("name", "", "attribute"),)]
+    elif kind == "child":
+        after = [(("element",),), signs("{") + some(LETTERS, 1, 8) + signs("}"), some(PLAIN_SIGNS, 1)]
+    elif kind == "children":
+        after = [signs("</" + told[0] + ">"), (("child",), ("children", told[0]))]
+    for one in after:
+        yield from ways(one + rest)
+
+
+def behind(stack, sign):
+    """The stack behind a sign that its first thing takes, or None if this takes no such sign."""
+    if not stack:
+        return None
+    (kind, *told), rest = stack[0], stack[1:]
+    if kind == "is":
+        return rest if told[0] == sign else None
+    if kind == "of":
+        allowed, least, most = told
+        return some(allowed, max(least - 1, 0), most - 1) + rest if sign in allowed and most > 0 else None
+    longer = told[0] + sign
+    if not NAME_BEGINS.fullmatch(longer) or (told[1] == "prefix" and ":" in longer):
+        return None
+    return (("name", longer, told[1]),) + rest
+
+
+def text_fault(text):
+    """The place with which a string is no written form, or None if it is one: all ways are followed at once."""
+    stacks = {(("element",),)}
+    for place, sign in enumerate(text):
+        stacks = {behind(one, sign) for stack in stacks for one in ways(stack)} - {None}
+        if not stacks:
+            return place
+    return None if any(one == () for stack in stacks for one in ways(stack)) else len(text)
 
 
 class Chance:

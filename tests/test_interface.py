@@ -30,6 +30,24 @@ INTERFACE = {
         "shown": "part, thing", "variant": "one, other", "keeping": "one, other",
     },
     "grafting": {"moved": "part, path, to, at", "stuck_by": "part, path, to"},
+    "sealing": {
+        "visible": "part, path, listed=()", "sealed": "part, surrounding, listed=()", "is_safe": "part, listed=()",
+        "is_firm": "part, listed=()", "safe_list": "part", "firm_list": "part", "unsafe": "part, listed=()",
+        "unfirm": "part, listed=()",
+    },
+    "texts": {"written": "part", "size_of": "part", "read_part": "string"},
+    "library": {"Library": "", "under": "manager, deed"},
+    "desk": {"Desk": ""},
+}
+
+# The methods of each class, with their parameters; None where the document tells none.
+METHODS = {
+    ("library", "Library"): {
+        "__getitem__": None, "__setitem__": None, "__contains__": None, "__len__": None, "__eq__": None,
+        "words": "self", "forget": "self, word", "replace": "self, word, part", "fill": "self, word, hole, other",
+        "tidy": "self, word", "move": "self, word, path, to, at", "undo": "self", "trial": "self",
+    },
+    ("desk", "Desk"): {"say": "self, line"},
 }
 
 
@@ -49,6 +67,20 @@ class Interface(unittest.TestCase):
                 if parameters is not None:
                     with self.subTest(name, told=told):
                         self.assertEqual(str(inspect.signature(getattr(module, told))), f"({parameters})")
+
+    def test_each_class_has_its_own_methods(self):
+        for (name, kind), wanted in METHODS.items():
+            own = vars(getattr(importlib.import_module(f"prefixgraft.{name}"), kind))
+            for told, parameters in wanted.items():
+                with self.subTest(kind, told=told):
+                    self.assertIn(told, own)
+                    self.assertTrue(inspect.isfunction(own[told]))
+                    if parameters is not None:
+                        self.assertEqual(str(inspect.signature(own[told])), f"({parameters})")
+
+    def test_the_property(self):
+        desk = importlib.import_module("prefixgraft.desk").Desk
+        self.assertIsInstance(vars(desk)["library"], property)
 
     def test_the_numbers(self):
         parts = importlib.import_module("prefixgraft.parts")

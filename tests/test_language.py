@@ -12,7 +12,7 @@ PATHS = sorted(path for path in PACKAGE.rglob("*") if path.is_file() and "__pyca
 BUILTINS = set(
     "len range enumerate zip min max sum abs sorted reversed int str bool list tuple dict set isinstance ord repr any"
     " all divmod map iter next super Exception ValueError TypeError KeyError IndexError LookupError ArithmeticError"
-    " ZeroDivisionError OverflowError RuntimeError NotImplementedError NotImplemented True False None".split()
+    " ZeroDivisionError OverflowError RuntimeError NotImplementedError NotImplemented True False None property".split()
 )
 METHODS = set(
     "append clear copy count endswith extend find get index insert isalnum isalpha isdigit islower isspace isupper"
@@ -43,7 +43,7 @@ UNUSED = (
 def names_of(node):
     """The names that a node binds, reads or tells."""
     told = [getattr(node, field, None) for field in ("id", "arg", "attr", "asname")]
-    if isinstance(node, (ast.FunctionDef, ast.ClassDef, ast.alias)):
+    if isinstance(node, (ast.FunctionDef, ast.ClassDef, ast.alias, ast.ExceptHandler)):
         told.append(node.name)
     return [name for name in told if isinstance(name, str)]
 
@@ -146,6 +146,43 @@ class Rules(unittest.TestCase):
                     self.assertNotIn(name, dir(builtins))
             without_comments = re.sub(r'"""[^"]*"""|#.*', "", text)
             self.assertIsNone(NO_WORDS.search(without_comments))
+
+        self.each(check)
+
+    def test_l5_operators_change_nothing(self):
+        def check(_, __, tree):
+            for one in ast.walk(tree):
+                methods = {node.name: node for node in one.body if isinstance(node, ast.FunctionDef)} \
+                    if isinstance(one, ast.ClassDef) else {}
+                self.assertNotIn("keys", methods)
+                self.assertLessEqual("__getitem__" in methods, "__iter__" in methods)
+                for name in ("__getitem__", "__contains__", "__len__", "__eq__"):
+                    for node in ast.walk(methods.get(name, ast.Pass())):
+                        self.assertNotIsInstance(node, (ast.Assign, ast.AugAssign, ast.Delete, ast.For, ast.While))
+                if "__len__" in methods:
+                    self.assertRegex(ast.unparse(methods["__len__"].body[-1]), r"\Areturn len\(.*\)\Z")
+
+        self.each(check)
+
+    def test_l5_what_an_index_asks_for(self):
+        def check(_, text, tree):
+            self.assertIsNone(re.search(r"\(type\)|Meta|metaclass=", text))
+            for node in ast.walk(tree):
+                if isinstance(node, ast.Attribute):
+                    self.assertNotIn(node.attr, ("keys", "sort"))
+                if isinstance(node, ast.Call) and isinstance(node.func, ast.Name) and node.func.id == "reversed":
+                    self.assertIn(node.args[0].func.id, ("list", "tuple", "sorted", "range"))
+
+        self.each(check)
+
+    def test_l6_rows_of_exit(self):
+        def check(_, __, tree):
+            for node in ast.walk(tree):
+                if isinstance(node, ast.FunctionDef) and node.name == "__exit__":
+                    for row in node.body:
+                        self.assertIsInstance(row, ast.Assign)
+                        self.assertIsInstance(row.targets[0], ast.Attribute)
+                        self.assertIsInstance(row.value, ast.Attribute)
 
         self.each(check)
 
